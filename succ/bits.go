@@ -58,9 +58,13 @@ func (b *Bits) Rank(i int) (int, api.Errno) {
 	if i < 0 || i > b.length {
 		return 0, api.ErrRange
 	}
+	return b.onesAhead(i), api.OK
+}
+
+func (b *Bits) onesAhead(i int) int {
 	word := i / wordBits
 	before := uint64(1)<<(i%wordBits) - 1
-	return int(b.ahead[word]) + bits.OnesCount64(b.words[word]&before), api.OK
+	return int(b.ahead[word]) + bits.OnesCount64(b.words[word]&before)
 }
 
 // Select tells where the k-th one is (P3).
@@ -68,9 +72,26 @@ func (b *Bits) Select(k int) (int, api.Errno) {
 	if k < 0 || k >= b.ones {
 		return 0, api.ErrRange
 	}
-	// No ones are ahead of the first word, so a word is always found.
-	word := sort.Search(len(b.ahead), func(i int) bool { return int(b.ahead[i]) > k }) - 1
-	return word*wordBits + selectInWord(b.words[word], k-int(b.ahead[word])), api.OK
+	return b.find(k, true), api.OK
+}
+
+// find tells where the k-th one, or the k-th zero, is; there must be one. (The
+// zeros that fill up the last word come last, so they are not in the way.)
+func (b *Bits) find(k int, one bool) int {
+	// None are ahead of the first word, so a word is always found.
+	at := sort.Search(len(b.words), func(i int) bool { return b.aheadOfWord(i, one) > k }) - 1
+	word := b.words[at]
+	if !one {
+		word = ^word
+	}
+	return at*wordBits + selectInWord(word, k-b.aheadOfWord(at, one))
+}
+
+func (b *Bits) aheadOfWord(at int, one bool) int {
+	if one {
+		return int(b.ahead[at])
+	}
+	return at*wordBits - int(b.ahead[at])
 }
 
 // selectInWord tells where the k-th one of a word is, counted from the lowest
