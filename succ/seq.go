@@ -4,6 +4,7 @@ import (
 	"math/bits"
 
 	"trellis/api"
+	"trellis/span"
 )
 
 // Seq is a sequence of small numbers.
@@ -84,13 +85,13 @@ func (s *Seq[T]) Rank(c T, i int) (int, api.Errno) {
 	if i < 0 || i > s.length {
 		return 0, api.ErrRange
 	}
-	return long(s.placesOf(c, api.Span{To: i})), api.OK
+	return span.Len(s.placesOf(c, api.Span{To: i})), api.OK
 }
 
 // Select tells where a number is for the k-th time (P4).
 func (s *Seq[T]) Select(c T, k int) (int, api.Errno) {
 	places := s.placesOf(c, api.Span{To: s.length})
-	if k < 0 || k >= long(places) {
+	if k < 0 || k >= span.Len(places) {
 		return 0, api.ErrRange
 	}
 	i := places.From + k
@@ -111,14 +112,14 @@ func (s *Seq[T]) placesOf(c T, x api.Span) api.Span {
 
 // Below tells how many numbers of a span are below one (P4).
 func (s *Seq[T]) Below(x api.Span, c T) (int, api.Errno) {
-	if !isSpan(x, s.length) {
+	if !span.Is(x, s.length) {
 		return 0, api.ErrRange
 	}
 	below := 0
 	for depth, level := range s.levels {
 		one := c&s.bitAt(depth) != 0
 		if one {
-			below += long(level.narrow(x, false))
+			below += span.Len(level.narrow(x, false))
 		}
 		x = level.narrow(x, one)
 	}
@@ -127,12 +128,12 @@ func (s *Seq[T]) Below(x api.Span, c T) (int, api.Errno) {
 
 // Least tells the k-th least number of a span (P4).
 func (s *Seq[T]) Least(x api.Span, k int) (T, api.Errno) {
-	if !isSpan(x, s.length) || k < 0 || k >= long(x) {
+	if !span.Is(x, s.length) || k < 0 || k >= span.Len(x) {
 		return 0, api.ErrRange
 	}
 	var c T
 	for depth, level := range s.levels {
-		zeros := long(level.narrow(x, false))
+		zeros := span.Len(level.narrow(x, false))
 		one := k >= zeros
 		if one {
 			k -= zeros
@@ -142,9 +143,3 @@ func (s *Seq[T]) Least(x api.Span, k int) (T, api.Errno) {
 	}
 	return c, api.OK
 }
-
-func isSpan(x api.Span, n int) bool {
-	return 0 <= x.From && x.From <= x.To && x.To <= n
-}
-
-func long(x api.Span) int { return x.To - x.From }
